@@ -1,0 +1,1 @@
+"""Foldletter: one letter from all sides."""
