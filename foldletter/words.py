@@ -34,6 +34,39 @@ def quoted(text):
     return '"' + inner + '"'
 
 
+class WordRow:
+    """The words of a value, remarks left out, to be taken one by one."""
+
+    def __init__(self, value):
+        self._cut = [word for word in words(value) if word[0] != "remark"]
+        self._end = len(value)
+        self._number = 0
+
+    def place(self):
+        """The begin of the next word, or how many signs the value has where there is none."""
+        if self.is_over():
+            return self._end
+        return self._cut[self._number][2]
+
+    def is_over(self):
+        """Whether all words are taken."""
+        return self._number == len(self._cut)
+
+    def sees(self, *sorts):
+        """Whether the next word is of one of the sorts."""
+        return not self.is_over() and self._cut[self._number][0] in sorts
+
+    def sees_mark(self, sign):
+        """Whether the next word is this mark."""
+        return self.sees("mark") and self._cut[self._number][1] == sign
+
+    def take(self):
+        """The next word, which there is; the one behind it is the next then."""
+        word = self._cut[self._number]
+        self._number += 1
+        return word
+
+
 def _word_at(text, begin):
     """The word that begins at a place where no blank stands."""
     sign = text[begin]

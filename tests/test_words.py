@@ -4,7 +4,7 @@ import unittest
 
 from foldletter.errors import LetterError, NoWords
 from foldletter import words as words_module
-from foldletter.words import quoted, words
+from foldletter.words import WordRow, quoted, words
 
 from tests.samples import FIGURES, LETTERS, NO_TEXTS, SIGNS
 
@@ -439,6 +439,40 @@ class QuotedTest(WordsCase):
             told = quoted(quoted(text))
             (word,) = words(told)
             self.assertEqual(words(word[1])[0][1], text)
+
+
+class WordRowTest(WordsCase):
+    def test_words_are_taken_in_their_order(self):
+        value = '(x) a "b c"(y)<  (z)'
+        row = WordRow(value)
+        for word in [word for word in words(value) if word[0] != "remark"]:
+            self.assertFalse(row.is_over())
+            self.assertEqual(row.place(), word[2])
+            self.assertEqual(row.take(), word)
+        self.assertTrue(row.is_over())
+        self.assertEqual(row.place(), len(value))
+
+    def test_what_it_sees(self):
+        row = WordRow('a "<" <')
+        self.assertEqual([row.sees("atom"), row.sees("quoted"), row.sees("quoted", "atom")], [True, False, True])
+        self.assertEqual([row.sees("mark"), row.sees_mark("<"), row.sees_mark("a")], [False, False, False])
+        row.take()
+        self.assertEqual([row.sees("atom"), row.sees("quoted"), row.sees_mark("<")], [False, True, False])
+        row.take()
+        self.assertEqual([row.sees("mark"), row.sees_mark("<"), row.sees_mark(">")], [True, True, False])
+        row.take()
+        self.assertEqual([row.sees("atom", "quoted", "mark"), row.sees_mark("<")], [False, False])
+
+    def test_no_words(self):
+        for value in ["", "  ", " (a) "]:
+            row = WordRow(value)
+            self.assertTrue(row.is_over())
+            self.assertEqual(row.place(), len(value))
+
+    def test_refused(self):
+        self.refused(0, WordRow, None)
+        self.refused(0, WordRow, "a\n")
+        self.refused(2, WordRow, "a (b")
 
 
 if __name__ == "__main__":
