@@ -40,6 +40,18 @@ def read_heads(lines):
     return heads
 
 
+def is_head(value):
+    """Whether a value, of any kind, is a head."""
+    return isinstance(value, tuple) and len(value) == 2 and is_name(value[0]) and is_value(value[1])
+
+
+def begins_head(line):
+    """Whether a line begins a head."""
+    # One that goes on has a blank in its name, so it begins none.
+    name, colon, _ = line.partition(":")
+    return colon == ":" and is_name(name)
+
+
 def is_name(value):
     """Whether a value, of any kind, is a name of a head."""
     if not is_line(value) or not 1 <= len(value) <= NAME_SIZE:
@@ -83,10 +95,7 @@ def _head_end(lines, begin):
 
 def _head_of(lines, number):
     """The head of its lines, the first of which has the number."""
-    name, colon, rest = lines[0].partition(":")
-    if colon == "":
-        raise NoHead("no colon in a head", number)
-    # A first line that goes on has a blank in its name, so it is refused here.
-    if not is_name(name):
-        raise NoHead("no name of a head", number)
+    if not begins_head(lines[0]):
+        raise NoHead("no name, with its colon, of a head", number)
+    name, _, rest = lines[0].partition(":")
     return (name, (rest + "".join(lines[1:])).strip(" "))
